@@ -1,0 +1,1 @@
+"""Walkrooms: rooms within rooms that walk."""
