@@ -1,10 +1,14 @@
 """Builders of rows, and things that are neither names nor rows, for the tests."""
 
+import random
+
 LETTERS = "abcdefghijklmnopqrstuvwxyz"
 # Words of parts that have a calling and a rest.
 THREES = ("room", "in", "out", "open", "hear", "new")
 BINDERS = ("hear", "new")
 USERS = ("room", "in", "out", "open")
+# Words of parts as they are drawn, rooms and walks more often than others, so that much is done.
+OFTEN = ("room",) * 5 + ("in", "out") * 2 + ("open", "say", "hear", "new", "again")
 
 
 def others():
@@ -61,3 +65,79 @@ def each_place(name, around="r"):
         for outer in THREES + ("again",):
             told.append((outer + " " + word, part(outer, around, part(word, name))))
     return told
+
+
+def any_things():
+    """Things of every kind: those of others, texts, and tuples, lists and dicts with such within them."""
+    told = others() + ["", "a", "0", "in", ".", "a.1"]
+    for thing in others() + ["a"]:
+        told += [(thing,), [thing], (thing, thing), (thing, (), thing), {"a": thing}, ((thing,),), ("in", thing, 0, 0, 0)]
+    for many in (2, 24, 50, 99):
+        told += [nested(tuple, many, ()), nested(list, many, []), nested(tuple, many, "a"), nested(list, many, {"a": 1})]
+    return told
+
+
+def drawn(seed):
+    """A source of chance that draws alike each time."""
+    return random.Random(seed)
+
+
+class Drawer:
+    """Draws houses: small rows in which names are few, so that rooms meet."""
+
+    def __init__(self, draw, free=("a", "b"), words=OFTEN, most=4):
+        self.draw = draw
+        self.free = free
+        self.words = words
+        self.most = most
+        self.bound = 0
+
+    def house(self, deep=3):
+        """A house."""
+        self.bound = 0
+        return self.row(deep, ())
+
+    def row(self, deep, names):
+        """A row in which these bound names may stand."""
+        if deep == 0:
+            return ()
+        return tuple([self.part(deep, names) for _ in range(self.draw.randrange(self.most + 1))])
+
+    def part(self, deep, names):
+        """A part of any word."""
+        word = self.draw.choice(self.words)
+        if word in BINDERS:
+            self.bound += 1
+            name = "q" + LETTERS[self.bound // 26] + LETTERS[self.bound % 26]
+            return (word, name, self.row(deep - 1, names + (name,)))
+        name = self.draw.choice(self.free + 2 * names)
+        if word == "say":
+            return ("say", name)
+        rest = self.row(deep - 1, names)
+        return ("again", rest) if word == "again" else (word, name, rest)
+
+
+def drawn_houses(seed, many, least_deep=1, **how):
+    """Many drawn houses, some of them without parts."""
+    drawer = Drawer(drawn(seed), **how)
+    return [drawer.house(drawer.draw.randrange(least_deep, 5)) for _ in range(many)]
+
+
+def mixed(row, draw):
+    """A row with its parts, and those of rests at whatever depth, in another order."""
+    parts = [(*one[:-1], mixed(one[-1], draw)) if one[0] != "say" else one for one in row]
+    draw.shuffle(parts)
+    return tuple(parts)
+
+
+def recalled(row, names):
+    """A row in which each calling, bound or not, is called as names tells."""
+    told = []
+    for one in row:
+        if one[0] == "again":
+            told.append(("again", recalled(one[1], names)))
+        elif one[0] == "say":
+            told.append(("say", names.get(one[1], one[1])))
+        else:
+            told.append((one[0], names.get(one[1], one[1]), recalled(one[2], names)))
+    return tuple(told)

@@ -1,6 +1,7 @@
 """The form that ../shared/LANGUAGE.md asks of the package, as far as it is quickly seen; where things are defined."""
 
 import ast
+import builtins
 import os
 import re
 import unittest
@@ -11,6 +12,10 @@ INTERFACE = {
     "names.py": ("is_name", "is_private", "base_of"),
     "houses.py": ("is_house", "parts_in", "deep", "free_in", "bound_in", "called"),
     "texts.py": ("shown",),
+    "reading.py": ("read",),
+    "stands.py": ("freed", "settled", "privates_in"),
+    "sameness.py": ("is_renaming", "renaming", "same"),
+    "steps.py": ("row_at", "steps_of", "step_done"),
 }
 BUILTINS = set("""len range enumerate zip min max sum abs sorted reversed int str bool bytes list tuple dict set frozenset
     isinstance ord repr any all divmod iter next super property staticmethod classmethod object float
@@ -19,6 +24,12 @@ BUILTINS = set("""len range enumerate zip min max sum abs sorted reversed int st
 BARRED_WORDS = re.compile(
     r"\b(type|typing|typing_extensions|enum|Enum|IntEnum|StrEnum|Flag|IntFlag|Generic|Protocol|ABC|ABCMeta|namedtuple"
     r"|NamedTuple|TypedDict|TYPE_CHECKING|abstractmethod)\b|dataclass|overload|contextmanager")
+# L25: what is called on texts, lists and dicts.
+METHODS = set("""append clear copy count endswith extend find get index insert isalnum isalpha isdigit islower isspace isupper
+    items join keys ljust lower lstrip partition pop remove replace reverse rfind rjust rpartition rsplit rstrip setdefault split
+    splitlines startswith strip update upper values zfill bit_length sort add discard __init__""".split())
+BARRED_NAMES = set("""register mro elements open input law version_info with_traceback add_note attrgetter builtins gc importlib
+    methodcaller os sys""".split())
 BARRED_STATEMENTS = (ast.Global, ast.AsyncFunctionDef, ast.AsyncFor, ast.AsyncWith, ast.Import, ast.Div)
 
 
@@ -47,6 +58,18 @@ def bound_names(tree):
         elif isinstance(node, (ast.ExceptHandler, ast.MatchAs, ast.MatchStar)) and node.name:
             told.add(node.name)
     return told
+
+
+def defined_methods(trees):
+    """The names of all methods."""
+    return {node.name for tree in trees for owner in ast.walk(tree) if isinstance(owner, ast.ClassDef)
+            for node in owner.body if isinstance(node, ast.FunctionDef)}
+
+
+def local_names(function):
+    """The parameters of a function and the names that it assigns."""
+    told = {node.arg for node in ast.walk(function) if isinstance(node, ast.arg)}
+    return told | {node.id for node in ast.walk(function) if isinstance(node, ast.Name) and not isinstance(node.ctx, ast.Load)}
 
 
 class Form(unittest.TestCase):
@@ -91,6 +114,48 @@ class Form(unittest.TestCase):
             for node in ast.walk(tree):
                 if isinstance(node, ast.Name) and name != "__main__.py":
                     self.assertIn(node.id, bound | BUILTINS, name)
+
+    def test_names_are_plain_and_not_barred(self):
+        for name, text in sources():
+            if name != "__main__.py":
+                tree = ast.parse(text)
+                methods = defined_methods([tree])
+                for bound in bound_names(tree) - methods:
+                    self.assertFalse(bound.startswith("_"), (name, bound))
+                    self.assertNotIn(bound, dir(builtins), name)
+                    self.assertNotIn(bound, BARRED_NAMES, name)
+
+    def test_no_local_name_is_that_of_an_import_or_a_class(self):
+        for name, text in sources():
+            tree = ast.parse(text)
+            taken = {alias.asname or alias.name for node in tree.body if isinstance(node, ast.ImportFrom) for alias in node.names}
+            taken |= {node.name for node in tree.body if isinstance(node, ast.ClassDef)}
+            for node in ast.walk(tree):
+                if isinstance(node, ast.FunctionDef):
+                    self.assertEqual(sorted(local_names(node) & taken), [], (name, node.name))
+
+    def test_methods_and_attributes(self):
+        trees = [ast.parse(text) for name, text in sources()]
+        methods = defined_methods(trees)
+        nodes = [node for tree in trees for node in ast.walk(tree)]
+        stored = {node.attr for node in nodes if isinstance(node, ast.Attribute) and isinstance(node.ctx, ast.Store)}
+        called = {node.func.attr for node in nodes if isinstance(node, ast.Call) and isinstance(node.func, ast.Attribute)}
+        read = {node.attr for node in nodes if isinstance(node, ast.Attribute) and isinstance(node.ctx, ast.Load)}
+        self.assertEqual(sorted(stored & methods), [])
+        self.assertEqual(sorted(called - methods - METHODS), [])
+        self.assertEqual(sorted(read - stored - methods - METHODS), [])
+        self.assertEqual(sorted((methods | stored) & METHODS - {"__init__"}), [])
+
+    def test_files_do_not_import_from_each_other(self):
+        imports = {}
+        for name, text in sources():
+            modules = [node.module for node in ast.parse(text).body if isinstance(node, ast.ImportFrom)]
+            imports[name[:-3]] = [module.split(".")[1] for module in modules if module != "__future__"]
+        while imports:
+            ready = [name for name in imports if not any(other in imports for other in imports[name])]
+            self.assertTrue(ready, imports)
+            for name in ready:
+                del imports[name]
 
     def test_the_interface_is_defined_where_it_is_listed(self):
         texts = dict(sources())

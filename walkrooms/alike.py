@@ -1,0 +1,29 @@
+"""Rows told so that those that are the same but for order and bound names are told alike."""
+
+from walkrooms.parts import calling_of, is_binder, rest_of
+
+
+def row_told(row, around, names):
+    """A row, told; around has what is bound where it stands, innermost first, names how free callings are called."""
+    return "|".join(sorted([part_told(part, around, names) for part in row]))
+
+
+def part_told(part, around, names):
+    """A part, told likewise."""
+    within = around_rest(part, around)
+    calling = calling_of(part)
+    level = level_of(calling, within)
+    told = names.get(calling, calling) if level is None else level
+    return f"{part[0]} {told}({row_told(rest_of(part), within, names)})"
+
+
+def around_rest(part, around):
+    """What is bound in a part's rest, innermost first."""
+    return (calling_of(part), *around) if is_binder(part) else around
+
+
+def level_of(calling, around):
+    """How many parts that bind stand around the one that binds a calling; None of a free one."""
+    if calling not in around:
+        return None
+    return len(around) - 1 - around.index(calling)
