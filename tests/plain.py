@@ -1,6 +1,7 @@
-"""Steps told once more, over lists that are changed in place: what the program tells is held against it."""
+"""Steps, renamings, ends and tables told once more, as plainly as can be: what the program tells is held against it."""
 
 import copy
+import itertools
 
 
 def as_lists(row):
@@ -106,3 +107,106 @@ def behind(stand, step):
             call(second[2], second[1], first[1])
             row += free(counter, second[2])
     return (counter[0], as_tuples(whole))
+
+
+def private_names(row):
+    """The private names of a row, sorted, each once."""
+    told = set()
+    for one in row:
+        if one[0] != "again" and "." in one[1]:
+            told.add(one[1])
+        if isinstance(one[-1], tuple):
+            told |= set(private_names(one[-1]))
+    return sorted(told)
+
+
+def blanked_levels(row, around, names):
+    """A row told as in 4.1, written apart from the program: nested tuples with levels, sorted by their writing."""
+    told = []
+    for one in row:
+        if one[0] == "again":
+            told.append(("again", blanked_levels(one[1], around, names)))
+        elif one[0] in ("hear", "new"):
+            told.append((one[0], blanked_levels(one[2], {**around, one[1]: len(around)}, names)))
+        else:
+            calling = around[one[1]] if one[1] in around else names.get(one[1], one[1])
+            told.append((one[0], calling, blanked_levels(one[2], around, names) if len(one) == 3 else ()))
+    return sorted(told, key=repr)
+
+
+def all_renamings(one, other):
+    """All renamings, by trying all orders."""
+    here, there = private_names(one[1]), private_names(other[1])
+    if len(here) != len(there):
+        return []
+    wanted = blanked_levels(other[1], {}, {})
+    tried = [dict(zip(here, order)) for order in itertools.permutations(there)]
+    return [names for names in tried if blanked_levels(one[1], {}, names) == wanted]
+
+
+def all_ends(house_stand):
+    """What ends_of tells: stands held against each other by trying all orders, runs gone through one by one."""
+    met = [house_stand]
+    for stand in met:
+        for step in steps_tried(stand):
+            after = behind(stand, step)
+            if not any(all_renamings(after, other) for other in met):
+                met.append(after)
+    return len(met), [stand for stand in met if not steps_tried(stand)], count_runs(house_stand)
+
+
+def count_runs(stand):
+    """How many runs lead from a stand to an end."""
+    steps = steps_tried(stand)
+    return sum(count_runs(behind(stand, step)) for step in steps) if steps else 1
+
+
+def lies(part, place, holds, means, heard):
+    """Whether a part of a house or a stand lies in a place, word by word as in 8.2."""
+    entries = holds.get(place, [])
+    word = part[0]
+    if word in ("new", "again"):
+        return all(lies(one, place, holds, means, heard) for one in part[-1])
+    if word == "hear":
+        return ("hear", part[1]) in entries and all(lies(one, place, holds, means, heard) for one in part[2])
+    names = means.get(part[1], []) if part[1] in heard else [part[1].partition(".")[0]]
+    if word == "room":
+        return all(("room", n) in entries and all(lies(one, n, holds, means, heard) for one in part[2]) for n in names)
+    if not all((word, n) in entries for n in names):
+        return False
+    return word == "say" or all(lies(one, place, holds, means, heard) for one in part[2])
+
+
+def heard_names(row):
+    """The names that hears of a row bind."""
+    told = set()
+    for one in row:
+        if one[0] == "hear":
+            told.add(one[1])
+        if isinstance(one[-1], tuple):
+            told |= heard_names(one[-1])
+    return told
+
+
+def lets(house, holds, means):
+    """Whether a table is let by, all places and names gone through as in 8.3."""
+    heard = heard_names(house)
+    if not all(lies(one, ".", holds, means, heard) for one in house):
+        return False
+    names = {name for entries in holds.values() for word, name in entries}
+
+    def has(place, word, name):
+        return (word, name) in holds.get(place, [])
+
+    for p in holds:
+        for m in names:
+            for a in names:
+                if has(p, "say", a) and has(p, "hear", m) and a not in means.get(m, []):
+                    return False
+                if has(a, "in", m) and has(p, "room", a) and has(p, "room", m) and not has(m, "room", a):
+                    return False
+                if has(a, "out", m) and has(m, "room", a) and has(p, "room", m) and not has(p, "room", a):
+                    return False
+            if has(p, "open", m) and has(p, "room", m) and not all(has(p, *entry) for entry in holds.get(m, [])):
+                return False
+    return True

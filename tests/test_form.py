@@ -16,7 +16,12 @@ INTERFACE = {
     "stands.py": ("freed", "settled", "privates_in"),
     "sameness.py": ("is_renaming", "renaming", "same"),
     "steps.py": ("row_at", "steps_of", "step_done"),
+    "walks.py": ("run", "Walk"),
+    "ends.py": ("ends_of",),
+    "tables.py": ("lets_table",),
+    "least.py": ("least_table",),
 }
+CLASS_METHODS = {("walks.py", "Walk"): ("__init__", "do", "undo", "stand", "log", "many", "behind")}
 BUILTINS = set("""len range enumerate zip min max sum abs sorted reversed int str bool bytes list tuple dict set frozenset
     isinstance ord repr any all divmod iter next super property staticmethod classmethod object float
     Exception ValueError TypeError KeyError IndexError LookupError ZeroDivisionError ArithmeticError OverflowError RuntimeError
@@ -163,6 +168,13 @@ class Form(unittest.TestCase):
             defined = [node.name for node in ast.parse(texts[name]).body if isinstance(node, (ast.FunctionDef, ast.ClassDef))]
             for thing in wanted:
                 self.assertIn(thing, defined, name)
+
+    def test_methods_of_the_interface_stand_in_their_class(self):
+        texts = dict(sources())
+        for (name, wanted), methods in CLASS_METHODS.items():
+            owner = [node for node in ast.parse(texts[name]).body if isinstance(node, ast.ClassDef) and node.name == wanted][0]
+            defined = [node.name for node in owner.body if isinstance(node, ast.FunctionDef)]
+            self.assertEqual(sorted(set(methods) - set(defined)), [], name)
 
 
 if __name__ == "__main__":

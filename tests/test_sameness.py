@@ -4,7 +4,8 @@ import itertools
 import time
 import unittest
 
-from samples import Drawer, drawn, drawn_houses, mixed, recalled
+from plain import all_renamings
+from samples import Drawer, drawn, drawn_houses, mixed, name_number, recalled
 from walkrooms.houses import bound_in
 from walkrooms.reading import read
 from walkrooms.sameness import is_renaming, renaming, same
@@ -64,30 +65,6 @@ UNLIKE = (
 def inverse(names):
     """A dict the other way."""
     return {there: here for here, there in names.items()}
-
-
-def blanked_levels(row, around, names):
-    """A row told as in 4.1, written apart from the program: nested tuples with levels, sorted by their writing."""
-    told = []
-    for one in row:
-        if one[0] == "again":
-            told.append(("again", blanked_levels(one[1], around, names)))
-        elif one[0] in ("hear", "new"):
-            told.append((one[0], blanked_levels(one[2], {**around, one[1]: len(around)}, names)))
-        else:
-            calling = around[one[1]] if one[1] in around else names.get(one[1], one[1])
-            told.append((one[0], calling, blanked_levels(one[2], around, names) if len(one) == 3 else ()))
-    return sorted(told, key=repr)
-
-
-def all_renamings(one, other):
-    """All renamings, by trying all orders."""
-    here, there = privates_in(one[1]), privates_in(other[1])
-    if len(here) != len(there):
-        return []
-    wanted = blanked_levels(other[1], {}, {})
-    tried = [dict(zip(here, order)) for order in itertools.permutations(there)]
-    return [names for names in tried if blanked_levels(one[1], {}, names) == wanted]
 
 
 class Sameness(unittest.TestCase):
@@ -155,6 +132,17 @@ class Sameness(unittest.TestCase):
     def test_dicts_of_stands_that_are_not_the_same(self):
         for other in ("new a <a> | b[]", "new a (<a> | a[] | <b>)", "new a a[<a>]", "new a new b (<a> | b[])", "0"):
             self.assertIs(is_renaming(stand_of("new a (<a> | a[])"), stand_of(other), {"a.1": "a.1"}), False)
+
+    def test_dicts_whose_keys_or_values_are_others(self):
+        one = stand_of("new a <a>")
+        for wrong in ({"z": "a.1"}, {"a.2": "a.1"}, {"a": "a.1"}, {"": "a.1"}, {"a.1": "a.1", "b": "a.1"}):
+            self.assertIs(is_renaming(one, one, wrong), False, wrong)
+        # Here the row so called is the other one's, but by a name, or by one private name for two.
+        self.assertIs(is_renaming(one, stand_of("<b>"), {"a.1": "b"}), False)
+        two = stand_of("new a <a> | new b <b>")
+        self.assertIs(is_renaming(two, stand_of("new c (<c> | <c>)"), {"a.1": "c.1", "b.2": "c.1"}), False)
+        self.assertIs(is_renaming(two, two, {"a.1": "b.2", "b.2": "a.1"}), True)
+        self.assertIs(is_renaming(two, two, {"a.1": "b.2"}), False)
 
     def test_without_private_names(self):
         one, other = stand_of("a[] | <b>"), stand_of("<b> | a[]")
@@ -318,6 +306,15 @@ class TenNames(unittest.TestCase):
                     other = turned([draw.sample(range(10), size) for _ in range(many)])
                     self.told_in_time(one, disguised(one, draw), True)
                     self.assertIs(same(one, other), same(other, disguised(one, draw)))
+
+    def test_large_stands_with_names_that_can_be_exchanged(self):
+        # Beside such that can't be told apart: all orders of the first ones would take too long here.
+        draw = drawn(12)
+        more = tuple([("room", name_number(j), (("say", f"p.{k}"),)) for j in range(40) for k in range(1, 11)])
+        for sizes, others in (((1, 1, 1, 1, 1, 5), (1, 1, 1, 1, 1, 2, 3)), ((2, 2, 2, 2, 2), (4, 2, 2, 2)), ((2, 2, 2, 1, 1, 1, 1), (4, 2, 1, 1, 1, 1))):
+            one, other = [(11, said(rings(*chosen))[1] + more) for chosen in (sizes, others)]
+            self.told_in_time(one, disguised(other, draw), False)
+            self.told_in_time(one, disguised(one, draw), True)
 
     def test_large_stands(self):
         draw = drawn(11)
