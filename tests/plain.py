@@ -210,3 +210,138 @@ def lets(house, holds, means):
             if has(p, "open", m) and has(p, "room", m) and not all(has(p, *entry) for entry in holds.get(m, [])):
                 return False
     return True
+
+
+def base(calling):
+    """The name ahead of a dot."""
+    return calling.split(".")[0]
+
+
+def within(holds, a, b):
+    """Whether a may come within b, by trying all chains of entries, longer and longer ones."""
+    places = {b, a, *holds, *[name for entries in holds.values() for word, name in entries]}
+    pairs = {(name, place) for place, entries in holds.items() for word, name in entries if word == "room"}
+    for _ in places:
+        pairs |= {(low, high) for low, middle in pairs for other, high in pairs if other == middle}
+    return (a, b) in pairs
+
+
+def is_meeting(row, a, b):
+    """Whether a room of base a is within one of base b: each row of the stand, and what its rooms are called."""
+    for path, inside in all_rows(row):
+        around, here = [], row
+        for k in path:
+            around.append(base(here[k][1]))
+            here = here[k][2]
+        if b in around and any(part[0] == "room" and base(part[1]) == a for part in inside):
+            return True
+    return False
+
+
+def keeps_bases(names):
+    """Whether a renaming leaves bases as they are."""
+    return all(base(one) == base(other) for one, other in names.items())
+
+
+def levels(begin, most):
+    """Lists of the stands that are come to by no step, by one, and so on, each once, until they are more than most."""
+    met = {blanked(begin): [begin]}
+    told = [[begin]]
+    while told[-1] and sum(len(level) for level in told) <= most:
+        told.append([])
+        for stand in told[-2]:
+            for step in steps_tried(stand):
+                after = behind(stand, step)
+                alike = met.setdefault(blanked(after), [])
+                if not any(any(keeps_bases(names) for names in all_renamings(after, other)) for other in alike):
+                    alike.append(after)
+                    told[-1].append(after)
+    return told
+
+
+def blanked(stand):
+    """What stands have alike that are the same by a renaming that leaves bases as they are."""
+    return repr(blanked_levels(stand[1], {}, {name: base(name) + "." for name in private_names(stand[1])}))
+
+
+def part_keeps(part, group, groups, rules):
+    """Whether a part keeps a group, clause by clause as in 10.2."""
+    word, rest = part[0], part[-1] if isinstance(part[-1], tuple) else ()
+    walks, opened, goes, says = rules[group]
+    if word == "room":
+        return all(part_keeps(one, groups[part[1]], groups, rules) for one in rest)
+    if word in ("in", "out") and not (walks and groups[part[1]] in goes):
+        return False
+    if word == "open":
+        there = rules[groups[part[1]]]
+        if not there[1] or (there[0] and not walks) or not set(there[2]) <= set(goes) or there[3] not in (None, says):
+            return False
+    if word in ("say", "hear") and says != groups[part[1]]:
+        return False
+    return all(part_keeps(one, group, groups, rules) for one in rest)
+
+
+def all_names(row):
+    """All names that stand in a row."""
+    told = {part[1] for part in row if part[0] != "again"}
+    for part in row:
+        if isinstance(part[-1], tuple):
+            told |= all_names(part[-1])
+    return told
+
+
+def kinds_keep(house, groups, rules):
+    """Whether kinds keep a house."""
+    names = all_names(house) | {"."}
+    if not names <= set(groups) or not {groups[name] for name in names} <= set(rules):
+        return False
+    return all(part_keeps(part, groups["."], groups, rules) for part in house)
+
+
+def placed(row, place):
+    """Each part of a row, and of rests, with the place that it stands in."""
+    told = []
+    for part in row:
+        told.append((place, part))
+        if isinstance(part[-1], tuple):
+            told += placed(part[-1], part[1] if part[0] == "room" else place)
+    return told
+
+
+def finest(house):
+    """The finest kinds, by rules for each name alone, and sets of names that must be one, made larger again and again."""
+    names = sorted(all_names(house) | {"."})
+    one = {name: {name} for name in names}
+    walks, opened = set(), set()
+    goes, says = {name: set() for name in names}, {name: set() for name in names}
+    before = None
+    while before != (one, walks, opened, goes, says):
+        before = copy.deepcopy((one, walks, opened, goes, says))
+        for place, part in placed(house, "."):
+            if part[0] in ("in", "out"):
+                walks.add(place)
+                goes[place].add(part[1])
+            if part[0] == "open":
+                opened.add(part[1])
+                if part[1] in walks:
+                    walks.add(place)
+                goes[place] |= goes[part[1]]
+                says[place] |= says[part[1]]
+            if part[0] in ("say", "hear"):
+                says[place].add(part[1])
+        for name in names:
+            for said in says[name]:
+                one[said] |= says[name]
+            for other in one[name]:
+                one[other] |= one[name]
+                goes[other] |= goes[name]
+                says[other] |= says[name]
+                walks |= {other} if name in walks else set()
+                opened |= {other} if name in opened else set()
+    groups = {name: min(one[name]) for name in names}
+    rules = {}
+    for name in names:
+        told = sorted({groups[goal] for goal in goes[name]})
+        said = sorted({groups[other] for other in says[name]})
+        rules[groups[name]] = (name in walks, name in opened, told, said[0] if said else None)
+    return groups, rules

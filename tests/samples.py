@@ -141,3 +141,59 @@ def recalled(row, names):
         else:
             told.append((one[0], names.get(one[1], one[1]), recalled(one[2], names)))
     return tuple(told)
+
+
+def beside(one, other):
+    """The other house with what it binds called otherwise than in the first one, and the row of both."""
+    other = recalled(other, {name: "o" + name for name in bound_names(other)})
+    return other, one + other
+
+
+def bound_names(row):
+    """What the parts of a row bind."""
+    told = [part[1] for part in row if part[0] in BINDERS]
+    for one in row:
+        if one[0] != "say":
+            told += bound_names(one[-1])
+    return told
+
+
+def drawn_mail(seed, many, most=4):
+    """Many drawn mails, with few names, so that much is sent and gotten."""
+    draw = drawn(seed)
+    told = []
+    while len(told) < many:
+        count = [0, 0]
+        mail = mail_row(draw, draw.randrange(1, 5), ("a", "b", "c"), count, most + 2)
+        # Mail has at most twenty parts, ten of them gets.
+        if count[0] <= 20 and count[1] <= 10:
+            told.append(mail)
+    return told
+
+
+def mail_row(draw, deep, names, count, most):
+    """Drawn mail in which these names may stand; count has how many parts and gets were drawn."""
+    if deep == 0:
+        return ()
+    parts = []
+    for _ in range(draw.randrange(most)):
+        count[0] += 1
+        if draw.randrange(2):
+            parts.append(("send", draw.choice(names), draw.choice(names)))
+        else:
+            count[1] += 1
+            x = "x" + LETTERS[count[1] % 26] + LETTERS[count[1] // 26 % 26]
+            parts.append(("get", draw.choice(names), x, mail_row(draw, deep - 1, names + (x, x), count, max(2, most - 2))))
+    return tuple(parts)
+
+
+def send_get(mail):
+    """The sets of what is free in mail and of what is bound there."""
+    free, bound = set(), set()
+    for part in mail:
+        free |= set(part[1:2] if part[0] == "get" else part[1:3])
+        if part[0] == "get":
+            inner, more = send_get(part[3])
+            free |= inner - {part[2]}
+            bound |= more | {part[2]}
+    return free, bound

@@ -20,6 +20,10 @@ INTERFACE = {
     "ends.py": ("ends_of",),
     "tables.py": ("lets_table",),
     "least.py": ("least_table",),
+    "meeting.py": ("may_come", "told_apart"),
+    "kinds.py": ("keeps",),
+    "telling.py": ("told_kinds",),
+    "mail.py": ("is_mail", "mail_names", "mail_steps", "mail_done"),
 }
 CLASS_METHODS = {("walks.py", "Walk"): ("__init__", "do", "undo", "stand", "log", "many", "behind")}
 BUILTINS = set("""len range enumerate zip min max sum abs sorted reversed int str bool bytes list tuple dict set frozenset

@@ -4,7 +4,7 @@ import copy
 import unittest
 
 import plain
-from samples import Drawer, drawn, drawn_houses, mixed
+from samples import Drawer, beside, drawn, drawn_houses, mixed
 from walkrooms.houses import bound_in, free_in, is_house
 from walkrooms.least import least_table
 from walkrooms.reading import read
@@ -287,13 +287,17 @@ class Tables(unittest.TestCase):
 
     def test_two_houses_beside_each_other(self):
         draw = drawn(43)
-        houses = drawn_houses(43, 120, least_deep=2, most=3)
+        met = {}
+        houses = drawn_houses(43, 240, least_deep=2, most=3)
         for one, other in zip(houses[::2], houses[1::2]):
-            if not is_house(one + other):
-                continue
-            holds, means = grown(one + other, {}, {}, draw, 2)
-            if lets_table(one, holds, means) and lets_table(other, holds, means):
-                self.told(one + other, holds, means, True)
+            other, both = beside(one, other)
+            self.assertTrue(is_house(both))
+            for base in (one, other, both):
+                holds, means = grown(base, {}, {}, draw, 2)
+                told = (lets_table(one, holds, means), lets_table(other, holds, means))
+                met[told] = met.get(told, 0) + 1
+                self.told(both, holds, means, all(told))
+        self.assertGreater(min(met[(True, True)], met[(True, False)], met[(False, True)]), 20, met)
 
 
 class Holding(unittest.TestCase):
@@ -343,6 +347,24 @@ class Holding(unittest.TestCase):
             for _ in range(12):
                 self.holds_at(stand, holds, means)
                 steps = [step for step in steps_of(stand) if step[0] == "letter"] or steps_of(stand)
+                if steps:
+                    stand = step_done(stand, draw.choice(steps))
+
+    def test_along_runs_of_two_houses(self):
+        draw = drawn(46)
+        houses = drawn_houses(46, 160, least_deep=3)
+        for one, other in zip(houses[::2], houses[1::2]):
+            other, both = beside(one, other)
+            holds, means = {}, {}
+            # Grown for the one and for the other in turn, never for both at once.
+            while not (lets_table(one, holds, means) and lets_table(other, holds, means)):
+                holds, means = grown(one, holds, means, draw, 0)
+                holds, means = grown(other, holds, means, draw, 0)
+            self.assertIs(lets_table(both, holds, means), True)
+            stand = settled(both)
+            for _ in range(12):
+                self.holds_at(stand, holds, means)
+                steps = steps_of(stand)
                 if steps:
                     stand = step_done(stand, draw.choice(steps))
 

@@ -2,33 +2,11 @@
 
 from walkrooms.errors import Again, NoHouse, TooMany
 from walkrooms.houses import is_house, parts_in
+from walkrooms.known import Known
 from walkrooms.parts import rest_of
-from walkrooms.sameness import shapes_matched
-from walkrooms.shapes import Marks, Shape
 from walkrooms.stands import settled
 from walkrooms.steps import step_done
 from walkrooms.weighing import weighed_steps
-
-
-class Known:
-    """Stands that are not the same, numbered from 0 on as they are come to."""
-
-    def __init__(self):
-        self.marks = Marks()
-        self.met = []
-        self.lots = {}
-
-    def number_of_stand(self, stand):
-        """The number of the stand that is the same as this one, a new one where there is none yet."""
-        shape = Shape(stand[1], self.marks)
-        lot = self.lots.setdefault(shape.sign, [])
-        for number, other in lot:
-            if shapes_matched(shape, other) is not None:
-                return number
-        number = len(self.met)
-        lot.append((number, shape))
-        self.met.append(stand)
-        return number
 
 
 def ends_of(house, most=200):
@@ -37,7 +15,7 @@ def ends_of(house, most=200):
         raise NoHouse("only a house has ends")
     if has_again(house):
         raise Again("a row that is done again has no end")
-    known = Known()
+    known = Known(False)
     known.number_of_stand(settled(house))
     ways = []
     while len(ways) < len(known.met):
@@ -54,7 +32,7 @@ def has_again(row):
 def ways_from(known, stand, most):
     """Tuples (number of the stand behind, how many steps lead there) of a stand; TooMany beyond most stands."""
     ways = []
-    for step, weight in weighed_steps(stand):
+    for step, weight in weighed_steps(stand, False):
         number = known.number_of_stand(step_done(stand, step))
         if len(known.met) > most:
             raise TooMany(f"more than {most} stands are come to")

@@ -9,30 +9,38 @@ MOST_DEEP = 24
 
 def is_house(thing):
     """Whether thing, of any kind, is a house."""
-    if not is_small_row(thing):
+    if parts_within(thing, MOST_PARTS, MOST_DEEP, is_named_part, rest_of) is None:
         return False
     free, bound = callings_of(thing)
-    return len(set(bound)) == len(bound) and len(set(bound) & set(free)) == 0
+    return binds_well(free, bound)
 
 
-def is_small_row(thing):
-    """Whether thing is a row with names alone, no larger and no deeper than a house may be."""
+def parts_within(thing, most_parts, most_deep, is_part, rest):
+    """All parts of a row, those of rests too; None of a thing, of any kind, that is no row, too large or too deep.
+
+    The function is_part tells of anything whether it is a part, its rest not looked at, and rest tells a part's rest.
+    """
     rows = [thing]
-    many = 0
+    told = []
     # Depth by depth, so that a thing of any depth or size is left as soon as it is too large.
-    for deeper in range(MOST_DEEP + 1):
+    for deeper in range(most_deep + 1):
         if not all(isinstance(row, tuple) for row in rows):
-            return False
-        many += sum(len(row) for row in rows)
-        if many > MOST_PARTS:
-            return False
+            return None
+        if len(told) + sum(len(row) for row in rows) > most_parts:
+            return None
         parts = [part for row in rows for part in row]
         if not parts:
-            return True
-        if not all(is_named_part(part) for part in parts):
-            return False
-        rows = [rest_of(part) for part in parts]
-    return False
+            return told
+        if not all(is_part(part) for part in parts):
+            return None
+        told.extend(parts)
+        rows = [rest(part) for part in parts]
+    return None
+
+
+def binds_well(free, bound):
+    """Whether what is bound, as often as it is, is bound by one part alone, and stands nowhere outside of its rest."""
+    return len(set(bound)) == len(bound) and len(set(bound) & set(free)) == 0
 
 
 def is_named_part(thing):

@@ -1,8 +1,8 @@
 """What a table lacks to be let by for a house: the one looker behind lets_table and least_table."""
 
 from walkrooms.parts import calling_of, rest_of
+from walkrooms.places import AROUND
 
-AROUND = "."
 ENTRY_WORDS = ("room", "in", "out", "open", "say", "hear")
 # Under this word, by a name in the stead of a place, stand the names in means of it.
 MEANS = "means"

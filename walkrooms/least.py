@@ -1,7 +1,7 @@
 """The least table of a house."""
 
-from walkrooms.houses import bound_in, free_in
-from walkrooms.lacking import AROUND, ENTRY_WORDS, MEANS, Rows, Table, lacks
+from walkrooms.lacking import ENTRY_WORDS, MEANS, Rows, Table, lacks
+from walkrooms.places import places_of
 
 
 def least_table(house):
@@ -14,8 +14,7 @@ def least_table(house):
         for place, word, name in lacking:
             table.put(place, word, name)
         lacking = lacks(table, rows)
-    places = [AROUND, *free_in(house), *bound_in(house)]
-    holds = {place: entries_in(table, place) for place in places}
+    holds = {place: entries_in(table, place) for place in places_of(house)}
     means = {name: sorted(table.names_by(name, MEANS)) for name in sorted(rows.heard)}
     return holds, means
 

@@ -7,10 +7,12 @@ BINDING_WORDS = ("hear", "new")
 
 def has_form(thing):
     """Whether thing, of any kind, has a part's word and as many things as that asks for."""
-    if not isinstance(thing, tuple) or not thing:
-        return False
-    # Asked ahead of the look into SIZES, as things of some kinds can't be keys.
-    return isinstance(thing[0], str) and SIZES.get(thing[0]) == len(thing)
+    return begins_with_word(thing) and SIZES.get(thing[0]) == len(thing)
+
+
+def begins_with_word(thing):
+    """Whether thing, of any kind, is a tuple whose first thing is a text; things of some other kinds can't be keys."""
+    return isinstance(thing, tuple) and len(thing) > 0 and isinstance(thing[0], str)
 
 
 def calling_of(part):

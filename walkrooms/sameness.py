@@ -32,9 +32,10 @@ def shapes_matched(one, other):
 
 def colors_matched(one, left, other, right):
     """A renaming by which each name goes to one of its color, the same colors being there on both sides."""
+    found = matched_in_order(one, left, other, right)
     color = rarest_shared(left)
-    if color is None:
-        return {name: other.names[right.index(left[k])] for k, name in enumerate(one.names)}
+    if found is not None or color is None:
+        return found
     chosen = one.refined_with_chosen(left.index(color), left)
     failed = []
     for j in places_with(right, color):
@@ -48,6 +49,18 @@ def colors_matched(one, left, other, right):
                 return found
         failed.append(j)
     return None
+
+
+def matched_in_order(one, left, other, right):
+    """The renaming by which names of like colors go to one another in order; None where it is none.
+
+    Of names that can all be exchanged it needs no further look.
+    """
+    places = sorted(range(len(left)), key=lambda k: left[k])
+    goals = sorted(range(len(right)), key=lambda k: right[k])
+    if one.mark_with_order(places) != other.mark_with_order(goals):
+        return None
+    return {one.names[k]: other.names[j] for k, j in zip(places, goals)}
 
 
 def rarest_shared(colors):

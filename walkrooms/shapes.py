@@ -1,6 +1,7 @@
 """Shapes: rows as numbered nodes, so that private names are quickly told apart by where they stand."""
 
 from walkrooms.alike import around_rest, level_of
+from walkrooms.names import base_of
 from walkrooms.parts import calling_of, rest_of
 from walkrooms.stands import privates_in
 
@@ -25,10 +26,10 @@ class Shape:
     """A row as nodes, those of rests ahead of what they are the rest of, parts that are the same as one node.
 
     Colors are a list of numbers, one for each private name; names of like colors are not told apart.
-    What two shapes tell can be compared where they were made with the same marks.
+    What two shapes tell can be compared where they were made with the same marks, and both with bases kept or neither.
     """
 
-    def __init__(self, row, marks):
+    def __init__(self, row, marks, keeps_bases=False):
         self.shared = marks
         self.names = privates_in(row)
         self.owners = {name: k for k, name in enumerate(self.names)}
@@ -38,8 +39,12 @@ class Shape:
         self.users = self.users_of_names()
         self.named = sorted({node for users in self.users for node in users})
         self.plain_marks = self.marks_of_plain_nodes()
-        self.colors = self.refined([0] * len(self.names))
+        self.colors = self.refined([self.first_color(name, keeps_bases) for name in self.names])
         self.sign = (self.marks_by(self.colors)[self.top], *sorted(self.colors))
+
+    def first_color(self, name, keeps_bases):
+        """The color from which that of a name is refined: its base's, where names go only to those of their base."""
+        return self.shared.number_of(("base", base_of(name))) if keeps_bases else 0
 
     def rest_nodes(self, row, around):
         """The nodes of a row's parts, sorted."""
@@ -122,10 +127,16 @@ class Shape:
 
     def can_exchange(self, k, j):
         """Whether the row stays the same but for order and bound names where two names are exchanged."""
-        # All other names have unlike colors here: names of like colors would be taken for one another.
-        apart = list(range(len(self.names)))
-        exchanged = replaced_at(replaced_at(apart, k, j), j, k)
-        return self.marks_by(apart)[self.top] == self.marks_by(exchanged)[self.top]
+        order = list(range(len(self.names)))
+        exchanged = replaced_at(replaced_at(order, k, j), j, k)
+        return self.mark_with_order(order) == self.mark_with_order(exchanged)
+
+    def mark_with_order(self, places):
+        """The mark of the whole, the names told by where they stand in the order of places: all of them apart."""
+        colors = [NOBODY] * len(places)
+        for color, k in enumerate(places):
+            colors[k] = color
+        return self.marks_by(colors)[self.top]
 
 
 def replaced_at(colors, k, color):

@@ -2,6 +2,7 @@
 
 from walkrooms.errors import NoStep
 from walkrooms.houses import called
+from walkrooms.parts import begins_with_word
 from walkrooms.stands import freed
 
 # How many things a step of each word has, word and path counted.
@@ -188,9 +189,9 @@ def moved_row(stand, step):
 
 def has_step_form(thing):
     """Whether thing, of any kind, has a step's word, path and places, wherever these lead."""
-    if not isinstance(thing, tuple) or not thing or not isinstance(thing[0], str):
+    if not begins_with_word(thing) or STEP_SIZES.get(thing[0]) != len(thing):
         return False
-    return STEP_SIZES.get(thing[0]) == len(thing) and are_places(thing[1]) and are_places(thing[2:])
+    return are_places(thing[1]) and are_places(thing[2:])
 
 
 def with_row_at(row, path, told):
