@@ -41,6 +41,10 @@ TOLD = (
     ("new j new k (j[in a] | k[in a] | a[])", 3, 1, 2),
 )
 
+# Of six names each knows the next one, in one ring of six or in two of three, whoever hears the letter.
+RINGS = "new a new b new c new d new e new f (<p> | (x).(%s) | (y).(%s))" % (
+    " | ".join(f"{one}[<{other}>]" for one, other in zip("abcdef", "bcdefa")), " | ".join(f"{one}[<{other}>]" for one, other in zip("abcdef", "cdefab")))
+
 
 def walkers(many, name="a"):
     """Like rooms that can all walk into one."""
@@ -158,6 +162,10 @@ class Ends(unittest.TestCase):
         with self.assertRaises(NoHouse):
             ends_of((("say", "a.1"),), 1)
 
+    def test_stands_that_look_alike_from_each_name(self):
+        self.assertEqual(ends_of(read(RINGS))[::2], (3, 2))
+        self.assertEqual(len(ends_of(read(RINGS))[1]), 2)
+
     def test_up_to_200_stands_in_a_few_seconds(self):
         chains = " | ".join(f"{name}[in b.in b.in b.in b.in b] | b[b[b[b[b[]]]]]" for name in ("a", "c"))
         texts = ["a[in b] | c[in b] | d[in b] | e[in b] | f[in b] | g[in b] | h[in b] | b[]", chains,
@@ -205,6 +213,14 @@ class Weighed(unittest.TestCase):
                     self.assertIn(step, steps)
                     alike = [after for after in left if same(after, step_done(stand, step))]
                     self.assertGreaterEqual(len(alike), many)
+
+    def test_the_first_of_those_that_are_alike(self):
+        for house in drawn_houses(34, 300, least_deep=3, free=("a",)):
+            stand = settled(house)
+            first = {}
+            for step in steps_of(stand):
+                first.setdefault(repr(plain.blanked_levels(step_done(stand, step)[1], {}, {})), step)
+            self.assertLessEqual(set(first.values()), {step for step, many in weighed_steps(stand, True)})
 
     def test_names_to_come_are_told_apart_where_bases_are_kept(self):
         stand = settled(read("a[in b.new k <k>] | a[in b.new j <j>] | b[] | c[(x).<x>] | c[(y).<y>] | !in b.new i <i>"))

@@ -24,8 +24,15 @@ INTERFACE = {
     "kinds.py": ("keeps",),
     "telling.py": ("told_kinds",),
     "mail.py": ("is_mail", "mail_names", "mail_steps", "mail_done"),
+    "boxes.py": ("house_of_mail", "mail_deeds"),
+    "machines.py": ("next_state",),
+    "building.py": ("house_of_machine", "machine_deeds"),
+    "desk.py": ("Desk",),
 }
-CLASS_METHODS = {("walks.py", "Walk"): ("__init__", "do", "undo", "stand", "log", "many", "behind")}
+CLASS_METHODS = {
+    ("walks.py", "Walk"): ("__init__", "do", "undo", "stand", "log", "many", "behind"),
+    ("desk.py", "Desk"): ("__init__", "say"),
+}
 BUILTINS = set("""len range enumerate zip min max sum abs sorted reversed int str bool bytes list tuple dict set frozenset
     isinstance ord repr any all divmod iter next super property staticmethod classmethod object float
     Exception ValueError TypeError KeyError IndexError LookupError ZeroDivisionError ArithmeticError OverflowError RuntimeError

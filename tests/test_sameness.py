@@ -326,6 +326,21 @@ class TenNames(unittest.TestCase):
         same(one, other)
         self.assertLess(time.perf_counter() - begin, 1)
 
+    def test_names_that_are_told_apart_by_two_chosen_ones(self):
+        # Two graphs of sixteen names each, in which all names look alike, also with any one of them chosen.
+        rook = [(a, b) for a in range(16) for b in range(16) if a != b and (a // 4 == b // 4 or a % 4 == b % 4)]
+        ways = ((0, 1), (0, 3), (1, 0), (3, 0), (1, 1), (3, 3))
+        other = [(4 * x + y, 4 * ((x + right) % 4) + (y + up) % 4) for x in range(4) for y in range(4) for right, up in ways]
+        beside = [(a + 16, b + 16) for a, b in other], [(a + 16, b + 16) for a, b in rook]
+        one, turned_round = edges_said(rook + beside[0]), edges_said(other + beside[1])
+        self.assertIs(is_renaming(one, turned_round, renaming(one, turned_round)), True)
+        self.assertIsNone(renaming(edges_said(rook), edges_said(other)))
+
+
+def edges_said(edges):
+    """A stand in which a room of the one name says the other one, for each edge."""
+    return (99, tuple([("room", f"p.{a + 10}", (("say", f"p.{b + 10}"),)) for a, b in edges]))
+
 
 if __name__ == "__main__":
     unittest.main()

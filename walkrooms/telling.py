@@ -18,28 +18,19 @@ class Groups:
     def let_say(self, place, name):
         """Lets the group of a place say that of a name; where it says one already, both become one."""
         group = self.group_by_name[place]
-        if group in self.said:
-            self.put_together(self.said[group], name)
-        else:
+        if group not in self.said:
             self.said[group] = name
             self.changes += 1
+        elif self.group_said(group) != self.group_by_name[name]:
+            self.put_together(self.group_said(group), self.group_by_name[name])
 
     def put_together(self, one, other):
-        """Makes the groups of two names one, then those that these say, and so on."""
-        while self.group_by_name[one] != self.group_by_name[other]:
-            least, last = sorted([self.group_by_name[one], self.group_by_name[other]])
-            self.rename(last, least)
-            self.changes += 1
-            if last not in self.said:
-                return
-            moved = self.said.pop(last)
-            one, other = self.said.setdefault(least, moved), moved
-
-    def rename(self, last, least):
-        """Puts all names of a group into another one."""
+        """Makes two groups one; what it says is not looked at."""
+        least, last = sorted([one, other])
         for name in list(self.group_by_name):
             if self.group_by_name[name] == last:
                 self.group_by_name[name] = least
+        self.changes += 1
 
 
 def told_kinds(house):
@@ -62,6 +53,7 @@ def groups_told(places, uses):
     """The groups of a house: apart are all names but those that one group says or hears."""
     groups = Groups(places)
     before = -1
+    # Groups that became one may say two groups: all is gone through again until nothing changes.
     while groups.changes != before:
         before = groups.changes
         for place, word, name in uses:

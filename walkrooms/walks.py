@@ -21,6 +21,7 @@ class Walk:
     def __init__(self, house):
         # One stand more than steps: the first is ahead of all of them.
         self.stands = [settled(house)]
+        self.house = house
         self.steps = []
 
     def do(self, step):
