@@ -120,28 +120,32 @@ def private_names(row):
     return sorted(told)
 
 
-def blanked_levels(row, around, names):
-    """A row told as in 4.1, written apart from the program: nested tuples with levels, sorted by their writing."""
+def blanked_levels(row, around, names, news=False):
+    """A row told as in 4.1, written apart from the program: nested tuples with levels, sorted by their writing.
+
+    With news, what new binds is told too.
+    """
     told = []
     for one in row:
         if one[0] == "again":
-            told.append(("again", blanked_levels(one[1], around, names)))
+            told.append(("again", blanked_levels(one[1], around, names, news)))
         elif one[0] in ("hear", "new"):
-            told.append((one[0], blanked_levels(one[2], {**around, one[1]: len(around)}, names)))
+            name = one[1] if news and one[0] == "new" else ""
+            told.append((one[0] + name, blanked_levels(one[2], {**around, one[1]: len(around)}, names, news)))
         else:
             calling = around[one[1]] if one[1] in around else names.get(one[1], one[1])
-            told.append((one[0], calling, blanked_levels(one[2], around, names) if len(one) == 3 else ()))
+            told.append((one[0], calling, blanked_levels(one[2], around, names, news) if len(one) == 3 else ()))
     return sorted(told, key=repr)
 
 
-def all_renamings(one, other):
-    """All renamings, by trying all orders."""
+def all_renamings(one, other, news=False):
+    """All renamings, by trying all orders; with news, such by which what new binds stays, too."""
     here, there = private_names(one[1]), private_names(other[1])
     if len(here) != len(there):
         return []
-    wanted = blanked_levels(other[1], {}, {})
+    wanted = blanked_levels(other[1], {}, {}, news)
     tried = [dict(zip(here, order)) for order in itertools.permutations(there)]
-    return [names for names in tried if blanked_levels(one[1], {}, names) == wanted]
+    return [names for names in tried if blanked_levels(one[1], {}, names, news) == wanted]
 
 
 def all_ends(house_stand):
@@ -244,24 +248,29 @@ def keeps_bases(names):
 
 
 def levels(begin, most):
-    """Lists of the stands that are come to by no step, by one, and so on, each once, until they are more than most."""
-    met = {blanked(begin): [begin]}
-    told = [[begin]]
-    while told[-1] and sum(len(level) for level in told) <= most:
-        told.append([])
-        for stand in told[-2]:
-            for step in steps_tried(stand):
-                after = behind(stand, step)
-                alike = met.setdefault(blanked(after), [])
-                if not any(any(keeps_bases(names) for names in all_renamings(after, other)) for other in alike):
-                    alike.append(after)
-                    told[-1].append(after)
+    """Lists of the stands that are come to by no step, by one, and so on, each once, until they are more than most.
+
+    Gone on is from all stands that are not the same with what new binds left as it is: these lead to unlike ones.
+    """
+    counted, met = {}, {}
+    add_unlike(counted, begin, False)
+    add_unlike(met, begin, True)
+    told, ahead = [[begin]], [begin]
+    while ahead and sum(len(level) for level in told) <= most:
+        after = [behind(stand, step) for stand in ahead for step in steps_tried(stand)]
+        ahead = [stand for stand in after if add_unlike(met, stand, True)]
+        told.append([stand for stand in ahead if add_unlike(counted, stand, False)])
     return told
 
 
-def blanked(stand):
-    """What stands have alike that are the same by a renaming that leaves bases as they are."""
-    return repr(blanked_levels(stand[1], {}, {name: base(name) + "." for name in private_names(stand[1])}))
+def add_unlike(lots, stand, news):
+    """Adds a stand to lots of such, unless it is the same as one by a renaming that leaves bases as they are; whether it did."""
+    blank = repr(blanked_levels(stand[1], {}, {name: base(name) + "." for name in private_names(stand[1])}, news))
+    lot = lots.setdefault(blank, [])
+    if any(any(keeps_bases(names) for names in all_renamings(stand, other, news)) for other in lot):
+        return False
+    lot.append(stand)
+    return True
 
 
 def part_keeps(part, group, groups, rules):

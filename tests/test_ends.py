@@ -199,11 +199,11 @@ class Weighed(unittest.TestCase):
     """What ends are counted by: steps that differ by order alone are told once, with how many they are."""
 
     def test_all_steps_are_weighed(self):
-        for keeps_bases in (False, True):
+        for keeps_news in (False, True):
             for house in drawn_houses(33, 200, least_deep=3, free=("a",)):
                 stand = settled(house)
                 steps = steps_of(stand)
-                weighed = weighed_steps(stand, keeps_bases)
+                weighed = weighed_steps(stand, keeps_news)
                 self.assertEqual(weighed, sorted(weighed))
                 self.assertEqual(len(set(step for step, many in weighed)), len(weighed))
                 for word in ("in", "out", "open", "letter", "again"):
@@ -222,13 +222,13 @@ class Weighed(unittest.TestCase):
                 first.setdefault(repr(plain.blanked_levels(step_done(stand, step)[1], {}, {})), step)
             self.assertLessEqual(set(first.values()), {step for step, many in weighed_steps(stand, True)})
 
-    def test_names_to_come_are_told_apart_where_bases_are_kept(self):
+    def test_names_to_come_are_told_apart_where_news_are_kept(self):
         stand = settled(read("a[in b.new k <k>] | a[in b.new j <j>] | b[] | c[(x).<x>] | c[(y).<y>] | !in b.new i <i>"))
         self.assertEqual(weighed_steps(stand, False), [(("again", (), 5), 1), (("in", (), 0, 0, 2), 2)])
         self.assertEqual(weighed_steps(stand, True), [(("again", (), 5), 1), (("in", (), 0, 0, 2), 1), (("in", (), 1, 0, 2), 1)])
         stand = settled(read("<a> | (x).<x> | (y).<y> | <a>"))
-        for keeps_bases in (False, True):
-            self.assertEqual(weighed_steps(stand, keeps_bases), [(("letter", (), 0, 1), 4)])
+        for keeps_news in (False, True):
+            self.assertEqual(weighed_steps(stand, keeps_news), [(("letter", (), 0, 1), 4)])
 
 
 if __name__ == "__main__":

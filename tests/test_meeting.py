@@ -51,6 +51,10 @@ MET = (
     ("!b[a[]]", "a", "b", 1),
     ("<c> | (x).b[in c.a[]] | c[]", "a", "b", 2),
     ("b[!in c.a[]] | c[]", "a", "b", 2),
+    # Which private names are to come is not told by sameness.
+    ("<c> | (x).p[in z.new k k[]] | (y).p[in z.new j j[]] | z[]", "k", "p", 2),
+    ("<c> | (x).p[in z.new k k[]] | (y).p[in z.new j j[]] | z[]", "j", "p", 2),
+    ("b[<c> | (x).p[in z.new k k[]] | (y).p[in z.new j j[]] | z[]]", "j", "b", 2),
     # What is heard, and private names by their bases.
     ("b[<a> | (x).x[]]", "a", "b", 1),
     ("<b> | (x).a[in x] | b[]", "a", "b", 2),
@@ -77,6 +81,10 @@ NEVER = (
     (STUCK + " | new k k[in v] | new j j[in v] | v[]", "a", "b", 4),
     (STUCK + " | new k k[in v] | new j j[in v] | new i i[in v] | v[]", "a", "b", 8),
     (STUCK + " | p[<c>] | p[in c.new k <k>] | p[in c.new j <j>] | c[]", "a", "b", 4),
+    # Those that are the same but for what new binds count once, but what they lead to counts each.
+    (STUCK + " | p[in c.in d.new k k[]] | p[in c.in d.new j j[]] | c[d[]]", "a", "b", 8),
+    (STUCK + " | p[in c.in q.new k k[]] | p[in c.in q.new j j[]] | p[in c.in q.new i i[]] | c[]", "a", "b", 4),
+    (STUCK + " | <c> | (x).p[in d.new k k[]] | (y).p[in d.new j j[]] | d[]", "a", "b", 4),
     # Those that are the same by one that does count once, whichever number is theirs.
     (STUCK + " | p[open q.new k <k> | q[]] | o[open q.new j <j> | q[]]", "a", "b", 4),
     (STUCK + " | p[in c.new k k[<k>]] | p[in c.new j j[<j>]] | p[in c.new i i[<i>]] | c[]", "a", "b", 8),
@@ -324,6 +332,14 @@ class Apart(unittest.TestCase):
         told_apart(stuck_among(10), "a", "b", 4)
         told_apart(house, "c", "a")
         self.assertEqual(told_apart(house, "a", "c"), first)
+
+    def test_many_stands_that_differ_by_names_to_come_alone(self):
+        many = 12
+        text = STUCK + " | v[]" + "".join(f" | p[in v.in q.new {name_number(k)} {name_number(k)}[]]" for k in range(many))
+        begin = time.perf_counter()
+        self.assertEqual(told_apart(read(text), "a", "b"), ("never", many + 1))
+        self.assertEqual(told_apart(read(text), "a", "b", many), ("open",))
+        self.assertLess(time.perf_counter() - begin, 10)
 
     def test_300_stands_in_a_few_seconds(self):
         walkers = " | ".join(f"{name}[in v]" for name in "cdefghij") + " | v[] | "

@@ -3,22 +3,22 @@
 from walkrooms.parts import calling_of, is_binder, rest_of
 
 
-def row_told(row, around, names, keeps_bases=False):
+def row_told(row, around, names, keeps_news=False):
     """A row, told; around has what is bound where it stands, innermost first, names how free callings are called.
 
-    Where bases are kept, what new binds is told as it is called: it is the base of private names to come.
+    Where news are kept, what new binds is told as it is called: it is the base of private names to come.
     """
-    return "|".join(sorted([part_told(part, around, names, keeps_bases) for part in row]))
+    return "|".join(sorted([part_told(part, around, names, keeps_news) for part in row]))
 
 
-def part_told(part, around, names, keeps_bases=False):
+def part_told(part, around, names, keeps_news=False):
     """A part, told likewise."""
     within = around_rest(part, around)
     calling = calling_of(part)
     level = level_of(calling, within)
     told = names.get(calling, calling) if level is None else level
-    base = calling if keeps_bases and part[0] == "new" else ""
-    return f"{part[0]} {base}{told}({row_told(rest_of(part), within, names, keeps_bases)})"
+    base = calling if keeps_news and part[0] == "new" else ""
+    return f"{part[0]} {base}{told}({row_told(rest_of(part), within, names, keeps_news)})"
 
 
 def around_rest(part, around):

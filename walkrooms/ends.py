@@ -15,7 +15,7 @@ def ends_of(house, most=200):
         raise NoHouse("only a house has ends")
     if has_again(house):
         raise Again("a row that is done again has no end")
-    known = Known(False)
+    known = Known(False, False)
     known.number_of_stand(settled(house))
     ways = []
     while len(ways) < len(known.met):

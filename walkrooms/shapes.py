@@ -26,11 +26,13 @@ class Shape:
     """A row as nodes, those of rests ahead of what they are the rest of, parts that are the same as one node.
 
     Colors are a list of numbers, one for each private name; names of like colors are not told apart.
-    What two shapes tell can be compared where they were made with the same marks, and both with bases kept or neither.
+    Where bases are kept, names go only to those of their base; where news are kept, what new binds is not called
+    otherwise. What two shapes tell can be compared where they were made with the same marks and in the same way.
     """
 
-    def __init__(self, row, marks, keeps_bases=False):
+    def __init__(self, row, marks, keeps_bases=False, keeps_news=False):
         self.shared = marks
+        self.keeps_news = keeps_news
         self.names = privates_in(row)
         self.owners = {name: k for k, name in enumerate(self.names)}
         self.nodes = []
@@ -43,7 +45,7 @@ class Shape:
         self.sign = (self.marks_by(self.colors)[self.top], *sorted(self.colors))
 
     def first_color(self, name, keeps_bases):
-        """The color from which that of a name is refined: its base's, where names go only to those of their base."""
+        """The color from which that of a name is refined: its base's, where bases are kept."""
         return self.shared.number_of(("base", base_of(name))) if keeps_bases else 0
 
     def rest_nodes(self, row, around):
@@ -58,7 +60,8 @@ class Shape:
         level = level_of(calling, within)
         # Which private name stands there is no part of the label, so that names can be exchanged.
         told = "" if owner != NOBODY else calling if level is None else level
-        return self.place_of((f"{part[0]} {told}", owner, self.rest_nodes(rest_of(part), within)))
+        base = calling if self.keeps_news and part[0] == "new" else ""
+        return self.place_of((f"{part[0]} {base}{told}", owner, self.rest_nodes(rest_of(part), within)))
 
     def place_of(self, node):
         """The number of a node (label, owner, nodes of the rest), which is added where it is new."""

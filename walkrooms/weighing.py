@@ -6,11 +6,11 @@ from walkrooms.alike import part_told
 class Weigher:
     """Gathers tuples (step, many) for all steps: a step, and how many lead to the same stand in the same way.
 
-    Where bases are kept, so they do by a renaming that leaves bases as they are.
+    Where news are kept, those are told apart by which private names of unlike bases are to come.
     """
 
-    def __init__(self, keeps_bases):
-        self.keeps_bases = keeps_bases
+    def __init__(self, keeps_news):
+        self.keeps_news = keeps_news
         self.weighed = []
 
     def gather(self, row, path, weight):
@@ -55,13 +55,13 @@ class Weigher:
         """Lists of the places at which parts stand that are the same but for order and bound names."""
         lots = {}
         for k, part in enumerate(row):
-            lots.setdefault(part_told(part, (), {}, self.keeps_bases), []).append(k)
+            lots.setdefault(part_told(part, (), {}, self.keeps_news), []).append(k)
         return list(lots.values())
 
 
-def weighed_steps(stand, keeps_bases):
+def weighed_steps(stand, keeps_news):
     """Tuples (step, many) for all steps of a stand, sorted: the first of those that lead to the same stand alike."""
-    weigher = Weigher(keeps_bases)
+    weigher = Weigher(keeps_news)
     weigher.gather(stand[1], (), 1)
     return sorted(weigher.weighed)
 
